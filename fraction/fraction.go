@@ -30,6 +30,11 @@ func reduced(upper whole.Whole, lower natural.Natural) Fraction {
 		upper = upper.FloorOver(shared)
 		lower, _ = lower.Over(shared)
 	}
+	return lowest(upper, lower)
+}
+
+// lowest is for those who know that upper and lower have no divisor in common.
+func lowest(upper whole.Whole, lower natural.Natural) Fraction {
 	if lower.IsOne() {
 		return Of(upper)
 	}
@@ -95,18 +100,28 @@ func (f Fraction) Compare(other Fraction) int {
 	return f.across(other).Compare(other.across(f))
 }
 
-// Plus adds.
+// Plus adds. Common divisors are looked for in the lower parts alone, and in
+// what they share: a long sum of which each term is short stays cheap.
 func (f Fraction) Plus(other Fraction) Fraction {
-	upper := f.across(other).Plus(other.across(f))
-	return reduced(upper, f.divisor().Times(other.divisor()))
+	shared := f.divisor().CommonDivisor(other.divisor())
+	if shared.IsOne() {
+		return lowest(f.across(other).Plus(other.across(f)), f.divisor().Times(other.divisor()))
+	}
+	rest, _ := f.lower.Over(shared)
+	otherRest, _ := other.lower.Over(shared)
+	upper := f.upper.Times(whole.OfNatural(otherRest)).Plus(other.upper.Times(whole.OfNatural(rest)))
+	sum := reduced(upper, shared)
+	return lowest(sum.upper, sum.divisor().Times(rest).Times(otherRest))
 }
 
 // Minus takes other from f.
 func (f Fraction) Minus(other Fraction) Fraction { return f.Plus(other.Turned()) }
 
-// Times multiplies.
+// Times multiplies. Each upper part has nothing in common with its own lower
+// part, so only those across are held against each other.
 func (f Fraction) Times(other Fraction) Fraction {
-	return reduced(f.upper.Times(other.upper), f.divisor().Times(other.divisor()))
+	one, two := reduced(f.upper, other.divisor()), reduced(other.upper, f.divisor())
+	return lowest(one.upper.Times(two.upper), one.divisor().Times(two.divisor()))
 }
 
 // Over divides by other, which is not 0.

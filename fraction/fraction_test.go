@@ -60,6 +60,62 @@ func TestAgainstLibrary(t *testing.T) {
 	}
 }
 
+// TestSmallAgainstLibrary: among small numbers lower parts share divisors in
+// every way, with each other and with what comes of them.
+func TestSmallAgainstLibrary(t *testing.T) {
+	var all []Fraction
+	var same []*big.Rat
+	for upper := int64(-9); upper <= 9; upper++ {
+		for lower := int64(1); lower <= 12; lower++ {
+			text := strconv.FormatInt(upper, 10) + "/" + strconv.FormatInt(lower, 10)
+			f, ok := Parse(text, 40)
+			if !ok {
+				t.Fatalf("Parse refuses %s", text)
+			}
+			all, same = append(all, f), append(same, big.NewRat(upper, lower))
+		}
+	}
+	for i, a := range all {
+		for j, b := range all {
+			x, y := same[i], same[j]
+			got := []Fraction{a.Plus(b), a.Minus(b), a.Times(b)}
+			want := []*big.Rat{new(big.Rat).Add(x, y), new(big.Rat).Sub(x, y), new(big.Rat).Mul(x, y)}
+			if y.Sign() != 0 {
+				got, want = append(got, a.Over(b)), append(want, new(big.Rat).Quo(x, y))
+			}
+			for k := range got {
+				if got[k].String() != want[k].RatString() || got[k].IsWhole() != want[k].IsInt() {
+					t.Fatalf("operation %d of %s and %s = %s, want %s", k, a, b, got[k], want[k].RatString())
+				}
+			}
+		}
+	}
+}
+
+// TestLongSum: what adds up to a whole by way of long lower parts is known as
+// whole in the end.
+func TestLongSum(t *testing.T) {
+	var sum Fraction
+	one := Of(whole.Of(1))
+	for lower := int64(1); lower < 1500; lower++ {
+		sum = sum.Plus(one.Over(Of(whole.Of(lower * (lower + 1)))))
+	}
+	if sum.String() != "1499/1500" {
+		t.Errorf("the sum is %.60s", sum)
+	}
+	var there, back Fraction
+	for lower := int64(1); lower < 400; lower++ {
+		there = there.Plus(one.Over(Of(whole.Of(lower))))
+	}
+	back = there
+	for lower := int64(1); lower < 400; lower++ {
+		back = back.Minus(one.Over(Of(whole.Of(lower))))
+	}
+	if len(there.String()) < 300 || back.String() != "0" || !back.IsWhole() {
+		t.Errorf("there %.60s, and back %.60s", there, back)
+	}
+}
+
 func TestZeroFraction(t *testing.T) {
 	half, _ := Parse("1/2", 40)
 	var zero Fraction

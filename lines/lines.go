@@ -17,6 +17,7 @@ type Line struct {
 	Number int
 	Text   string
 	Ended  bool
+	Last   bool
 }
 
 // Of goes over the lines of a text: none, if it is empty.
@@ -26,6 +27,7 @@ func Of(text string) iter.Seq[Line] {
 		for number := 1; rest != ""; number++ {
 			line := Line{Number: number}
 			line.Text, rest, line.Ended = strings.Cut(rest, lineEnd)
+			line.Last = rest == ""
 			if !yield(line) {
 				return
 			}

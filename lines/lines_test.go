@@ -9,12 +9,13 @@ import (
 func TestOf(t *testing.T) {
 	for text, want := range map[string][]Line{
 		"":         nil,
-		"\n":       {{1, "", true}},
-		"a":        {{1, "a", false}},
-		"a\n":      {{1, "a", true}},
-		"a\nb":     {{1, "a", true}, {2, "b", false}},
-		"\n\na\n":  {{1, "", true}, {2, "", true}, {3, "a", true}},
-		"a\r\n \n": {{1, "a\r", true}, {2, " ", true}},
+		"\n":       {{1, "", true, true}},
+		"\n\n":     {{1, "", true, false}, {2, "", true, true}},
+		"a":        {{1, "a", false, true}},
+		"a\n":      {{1, "a", true, true}},
+		"a\nb":     {{1, "a", true, false}, {2, "b", false, true}},
+		"\n\na\n":  {{1, "", true, false}, {2, "", true, false}, {3, "a", true, true}},
+		"a\r\n \n": {{1, "a\r", true, false}, {2, " ", true, true}},
 	} {
 		if got := slices.Collect(Of(text)); !slices.Equal(got, want) {
 			t.Errorf("Of(%q) = %v, want %v", text, got, want)

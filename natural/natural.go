@@ -28,6 +28,14 @@ func trim(digits Natural) Natural {
 	return digits
 }
 
+// Uint64 is the number as a machine's; false, if it is too great for that.
+func (n Natural) Uint64() (uint64, bool) {
+	if len(n) > 2 {
+		return 0, false
+	}
+	return n.low64(), true
+}
+
 // IsZero tells whether it is 0.
 func (n Natural) IsZero() bool { return len(n) == 0 }
 

@@ -93,6 +93,14 @@ func TestDivideByZero(t *testing.T) {
 func TestOf(t *testing.T) {
 	for _, n := range []uint64{0, 1, 1<<32 - 1, 1 << 32, 1<<64 - 1} {
 		expect(t, "Of", Of(n), new(big.Int).SetUint64(n))
+		if back, ok := Of(n).Uint64(); !ok || back != n {
+			t.Errorf("Uint64 of %d = %d, %v", n, back, ok)
+		}
+	}
+	for _, n := range []Natural{{0, 0, 1}, {1, 0, 0, 1}} {
+		if back, ok := n.Uint64(); ok || back != 0 {
+			t.Errorf("Uint64 of %s = %d, %v", n, back, ok)
+		}
 	}
 	if !Of(1).IsOne() || Of(0).IsOne() || Of(1<<32).IsOne() || !Of(0).IsZero() || Of(1).IsZero() {
 		t.Error("IsOne or IsZero is wrong")

@@ -10,7 +10,7 @@ func Calc(op int, a string, b string) (string, api.Errno) { return calc(op, a, b
 func Plain(problem string) (string, api.Errno, int) { return plain(problem) }
 
 // Audit looks whether a log shows a verdict (P5).
-func Audit(problem string, v api.Verdict, log string) (api.Errno, int) { return api.OK, 0 }
+func Audit(problem string, v api.Verdict, log string) (api.Errno, int) { return audit(problem, v, log) }
 
 // Solve finds the greatest point (P6, P7).
 func Solve(problem string, cuts int, pivots int) (api.Result, api.Errno, int) {

@@ -49,6 +49,20 @@ type Problem struct {
 // Columns goes over the variables, in order.
 func (p Problem) Columns() iter.Seq[Column] { return each(p.columns) }
 
+// Vars is how many variables there are.
+func (p Problem) Vars() int { return len(p.columns) }
+
+// Aims goes over the coefficients of what is to be greatest.
+func (p Problem) Aims() iter.Seq[whole.Whole] {
+	return func(yield func(whole.Whole) bool) {
+		for column := range p.Columns() {
+			if !yield(column.Aim) {
+				return
+			}
+		}
+	}
+}
+
 // Rows goes over the conditions, in order.
 func (p Problem) Rows() iter.Seq[Row] { return each(p.rows) }
 
@@ -82,10 +96,10 @@ func within[E any](list []E) iter.Seq[*E] {
 // String is the plain form.
 func (p Problem) String() string {
 	var text strings.Builder
-	text.WriteString(lines.Join(wordVars, strconv.Itoa(len(p.columns))))
+	text.WriteString(lines.Join(wordVars, strconv.Itoa(p.Vars())))
 	aims := []string{wordMax}
-	for column := range p.Columns() {
-		aims = append(aims, column.Aim.String())
+	for aim := range p.Aims() {
+		aims = append(aims, aim.String())
 	}
 	text.WriteString(lines.Join(aims...))
 	for column := range p.Columns() {
