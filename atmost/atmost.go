@@ -5,53 +5,82 @@ import (
 	"iter"
 	"slices"
 
+	"planes/lists"
+	"planes/natural"
 	"planes/whole"
 )
 
-// Row is a sum of coefficients times the variables, which is at most Most. It
-// is not written into once it is made, so that several may share memory.
-type Row struct {
-	Most    whole.Whole
+// Sum is coefficients times the variables, added up. It is not written into
+// once it is made, so that several may share memory.
+type Sum struct {
 	factors []whole.Whole
 }
 
-// Of makes a Row with these coefficients, one for each variable.
-func Of(factors iter.Seq[whole.Whole], most whole.Whole) Row {
-	return Row{Most: most, factors: slices.Collect(factors)}
-}
+// SumOf makes a Sum with these coefficients, one for each variable.
+func SumOf(factors iter.Seq[whole.Whole]) Sum { return Sum{slices.Collect(factors)} }
 
 // Factors goes over the coefficients, one for each variable.
-func (r Row) Factors() iter.Seq[whole.Whole] { return slices.Values(r.factors) }
+func (s Sum) Factors() iter.Seq[whole.Whole] { return slices.Values(s.factors) }
 
-// Turned is the row with all signs turned.
-func (r Row) Turned() Row { return Of(r.turnedFactors(), r.Most.Turned()) }
+// With goes over the coefficients, each with its number of a point, which has
+// one for each variable.
+func (s Sum) With(point []whole.Whole) iter.Seq2[whole.Whole, whole.Whole] {
+	return lists.Pairs(s.factors, point)
+}
 
-func (r Row) turnedFactors() iter.Seq[whole.Whole] {
+// At is what the sum comes to at a point.
+func (s Sum) At(point []whole.Whole) whole.Whole {
+	var sum whole.Whole
+	for factor, x := range s.With(point) {
+		sum = sum.Plus(factor.Times(x))
+	}
+	return sum
+}
+
+// each goes over what a function makes of the coefficients.
+func (s Sum) each(made func(whole.Whole) whole.Whole) iter.Seq[whole.Whole] {
 	return func(yield func(whole.Whole) bool) {
-		for factor := range r.Factors() {
-			if !yield(factor.Turned()) {
+		for factor := range s.Factors() {
+			if !yield(made(factor)) {
 				return
 			}
 		}
 	}
 }
 
-// At is what the sum comes to at a point, which has a number for each
-// variable.
-func (r Row) At(point []whole.Whole) whole.Whole {
-	var sum whole.Whole
-	for factor, x := range pairs(r.factors, point) {
-		sum = sum.Plus(factor.Times(x))
+// CommonDivisor is the greatest number that divides all coefficients; 0, if
+// they are all 0.
+func (s Sum) CommonDivisor() natural.Natural {
+	var shared natural.Natural
+	for factor := range s.Factors() {
+		shared = shared.CommonDivisor(factor.Size())
 	}
-	return sum
+	return shared
 }
+
+// Row is a sum that is at most Most.
+type Row struct {
+	Sum
+	Most whole.Whole
+}
+
+// Of makes a Row with these coefficients, one for each variable.
+func Of(factors iter.Seq[whole.Whole], most whole.Whole) Row {
+	return Row{SumOf(factors), most}
+}
+
+// Blank is the row that says nothing: 0 is at most 0, for so many variables.
+func Blank(count int) Row { return Row{Sum: Sum{make([]whole.Whole, count)}} }
+
+// Turned is the row with all signs turned.
+func (r Row) Turned() Row { return Of(r.each(whole.Whole.Turned), r.Most.Turned()) }
 
 // HoldsAt tells whether the sum is at most Most at a point.
 func (r Row) HoldsAt(point []whole.Whole) bool { return r.At(point).Compare(r.Most) <= 0 }
 
 // Same tells whether the two have the same coefficients and the same Most.
 func (r Row) Same(other Row) bool {
-	for factor, with := range pairs(r.factors, other.factors) {
+	for factor, with := range lists.Pairs(r.factors, other.factors) {
 		if factor.Compare(with) != 0 {
 			return false
 		}
@@ -70,13 +99,19 @@ func (r Row) HoldsNowhere() bool {
 	return r.Most.Sign() < 0
 }
 
-// pairs goes over two lists side by side, as far as both go.
-func pairs[A, B any](first []A, second []B) iter.Seq2[A, B] {
-	return func(yield func(A, B) bool) {
-		for i := range min(len(first), len(second)) {
-			if !yield(first[i], second[i]) {
-				return
-			}
-		}
+// Plus is the row with so many times another added to it. It follows from the
+// two only if times is not below 0.
+func (r Row) Plus(other Row, times whole.Whole) Row {
+	more := Row{Most: r.Most.Plus(other.Most.Times(times))}
+	for factor, with := range lists.Pairs(r.factors, other.factors) {
+		more.factors = append(more.factors, factor.Plus(with.Times(times)))
 	}
+	return more
+}
+
+// Over divides by a number that divides all coefficients. Where the variables
+// are whole, so is the sum: what it is at most is floored.
+func (r Row) Over(divisor natural.Natural) Row {
+	divided := func(number whole.Whole) whole.Whole { return number.FloorOver(divisor) }
+	return Of(r.each(divided), divided(r.Most))
 }

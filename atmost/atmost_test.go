@@ -6,6 +6,7 @@ import (
 	"testing"
 
 	"planes/fraction"
+	"planes/natural"
 	"planes/whole"
 )
 
@@ -152,25 +153,18 @@ func TestLeftEarly(t *testing.T) {
 			}
 			break
 		}
-		for factor := range r.turnedFactors() {
+		for factor := range r.each(whole.Whole.Turned) {
 			if factor.String() != "-1" {
 				t.Errorf("the first factor turned is %s", factor)
 			}
 			break
 		}
-		for a, b := range pairs([]int{1, 2}, []string{"x", "y", "z"}) {
-			if a != 1 || b != "x" {
-				t.Errorf("the first pair is %d, %s", a, b)
+		for factor, x := range r.With(wholes(7, 8, 9)) {
+			if factor.String() != "1" || x.String() != "7" {
+				t.Errorf("the first factor is %s, with %s", factor, x)
 			}
 			break
 		}
-	}
-	count := 0
-	for range pairs([]int{1, 2}, []string{"x", "y", "z"}) {
-		count++
-	}
-	if count != 2 {
-		t.Errorf("%d pairs", count)
 	}
 }
 
@@ -181,5 +175,54 @@ func TestOwnMemory(t *testing.T) {
 	list[0] = whole.Of(9)
 	if show(r) != "1 2 <= 3" {
 		t.Errorf("the row is now %s", show(r))
+	}
+}
+
+func TestPlus(t *testing.T) {
+	start := Blank(3)
+	if show(start) != "0 0 0 <= 0" {
+		t.Fatalf("Blank: %s", show(start))
+	}
+	one := start.Plus(row(5, 1, -2, 0), whole.Of(2))
+	two := one.Plus(row(-1, 1, 1, 1), whole.Of(3))
+	three := one.Plus(row(-1, 1, 1, 1), whole.Of(-1))
+	for want, got := range map[string]Row{"0 0 0 <= 0": start, "2 -4 0 <= 10": one, "5 -1 3 <= 7": two, "1 -5 -1 <= 11": three} {
+		if show(got) != want {
+			t.Errorf("Plus makes %s, want %s", show(got), want)
+		}
+	}
+}
+
+func TestOver(t *testing.T) {
+	for _, c := range []struct {
+		row     Row
+		divisor uint64
+		want    string
+	}{
+		{row(7, 2, -4), 2, "1 -2 <= 3"},
+		{row(-7, 2, -4), 2, "1 -2 <= -4"},
+		{row(-8, 2, -4), 2, "1 -2 <= -4"},
+		{row(-7, 5, 3), 1, "5 3 <= -7"},
+		{row(2, 0, 9), 3, "0 3 <= 0"},
+		{row(-2, 0, 9), 9, "0 1 <= -1"},
+	} {
+		if got := show(c.row.Over(natural.Of(c.divisor))); got != c.want {
+			t.Errorf("%s over %d = %s, want %s", show(c.row), c.divisor, got, c.want)
+		}
+	}
+}
+
+func TestCommonDivisor(t *testing.T) {
+	for want, r := range map[string]Row{"0": row(6, 0, 0), "1": row(6, 2, 3), "2": row(7, -2, 4, 0), "5": row(0, 0, -5), "6": row(1, 12, -18, 30)} {
+		if got := r.CommonDivisor().String(); got != want {
+			t.Errorf("what the coefficients of %s share is %s, want %s", show(r), got, want)
+		}
+	}
+}
+
+func TestSum(t *testing.T) {
+	s := SumOf(slices.Values(wholes(5, -4)))
+	if got := s.At(wholes(2, 3)); got.Compare(whole.Of(-2)) != 0 {
+		t.Errorf("the sum is %s", got)
 	}
 }

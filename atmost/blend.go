@@ -4,6 +4,7 @@ import (
 	"slices"
 
 	"planes/fraction"
+	"planes/lists"
 	"planes/whole"
 )
 
@@ -24,7 +25,7 @@ func Nothing(count int) Blend {
 // times is not below 0.
 func (b Blend) Plus(row Row, times fraction.Fraction) Blend {
 	more := Blend{most: plusTimes(b.most, row.Most, times)}
-	for sum, factor := range pairs(b.factors, row.factors) {
+	for sum, factor := range lists.Pairs(b.factors, row.factors) {
 		more.factors = append(more.factors, plusTimes(sum, factor, times))
 	}
 	return more

@@ -1,4 +1,4 @@
-// Package logbook: logs, as they are read.
+// Package logbook: logs, as they are read and as they are written.
 package logbook
 
 import (
@@ -28,6 +28,23 @@ const (
 type Part struct {
 	Row    natural.Natural
 	Factor fraction.Fraction
+}
+
+// String is the part as it is written.
+func (p Part) String() string { return p.Row.String() + partMark + p.Factor.String() }
+
+// Cut is the line of a cut, as it is written, with its end.
+func Cut(parts iter.Seq[Part]) string { return written(wordCut, parts) }
+
+// End is the line that shows the verdict, as it is written, with its end.
+func End(parts iter.Seq[Part]) string { return written(wordEnd, parts) }
+
+func written(word string, parts iter.Seq[Part]) string {
+	words := []string{word}
+	for part := range parts {
+		words = append(words, part.String())
+	}
+	return lines.Join(words...)
 }
 
 // Line is a line of a log: IsEnd tells the last one, which shows the verdict,

@@ -105,3 +105,22 @@ func TestLeftEarly(t *testing.T) {
 		break
 	}
 }
+
+// TestWritten: what is written is read as it was, in lowest terms.
+func TestWritten(t *testing.T) {
+	for parts, want := range map[string]string{
+		"":                        "",
+		" 1:1":                    " 1:1",
+		" 07:02/4 1:3/1 1:-6/4":   " 7:1/2 1:3 1:-3/2",
+		" 18446744073709551616:0": " 18446744073709551616:0",
+	} {
+		for line := range Of("end" + parts + "\n") {
+			if got := End(line.Parts()); got != "end"+want+"\n" {
+				t.Errorf("End of %q = %q", parts, got)
+			}
+			if got := Cut(line.Parts()); got != "cut"+want+"\n" {
+				t.Errorf("Cut of %q = %q", parts, got)
+			}
+		}
+	}
+}

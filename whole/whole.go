@@ -104,3 +104,13 @@ func (w Whole) FloorOver(divisor natural.Natural) Whole {
 	}
 	return signed(w.below, quotient)
 }
+
+// RestOver is what FloorOver leaves over: 0 or above, and below divisor, which
+// is not 0.
+func (w Whole) RestOver(divisor natural.Natural) natural.Natural {
+	_, rest := w.size.Over(divisor)
+	if w.below && !rest.IsZero() {
+		return divisor.Apart(rest)
+	}
+	return rest
+}

@@ -63,6 +63,10 @@ func TestAgainstLibrary(t *testing.T) {
 			if toBig(t, got).Cmp(want) != 0 {
 				t.Fatalf("FloorOver of %s and %s = %s, want %s", a, divisor, got, want)
 			}
+			rest, left := a.RestOver(b.Size()), new(big.Int).Mod(x, divisor)
+			if toBig(t, OfNatural(rest)).Cmp(left) != 0 {
+				t.Fatalf("RestOver of %s and %s = %s, want %s", a, divisor, rest, left)
+			}
 		}
 	}
 }
